@@ -1,0 +1,1 @@
+"""Usewarden: rules of use, watched and taken off."""
