@@ -4,7 +4,7 @@ import copy
 import random
 import unittest
 
-from helpers import are_apart, door, lease, random_rule, rows_upto, rules_of, spoil, steps_rule
+from helpers import check_own, door, lease, random_rule, rows_upto, rules_of, steps_rule
 from usewarden.leastrules import least_rule
 from usewarden.rules import is_rule, room_after
 
@@ -217,16 +217,7 @@ class Own(unittest.TestCase):
     def test_every_list_is_new(self):
         same = [0, None]
         for rule in (door(), lease(), (1, [], [[]]), steps_rule(60, None), (1, ["a", "b"], [same, same])):
-            before = copy.deepcopy(rule)
-            least = least_rule(rule)
-            again = copy.deepcopy(least)
-            self.assertTrue(are_apart(least, least_rule(rule)))
-            spoil(least)
-            self.assertEqual(rule, before)
-            self.assertEqual(least_rule(rule), again)
-            kept = least_rule(rule)
-            spoil(rule)
-            self.assertEqual(kept, again)
+            check_own(self, least_rule, rule)
 
 
 if __name__ == "__main__":

@@ -4,12 +4,9 @@ import copy
 import string
 import unittest
 
-from helpers import are_apart, door, lease, odd_things, spoil, steps_rule
+from helpers import SIXTEEN, SIXTEEN_SIDED, are_apart, door, lease, odd_things, spoil, steps_rule
 from usewarden.errors import NoRule
 from usewarden.rules import copied_rule, is_rule, is_word, room_after
-
-SIXTEEN = list("abcdefghijklmnop")
-SIXTEEN_SIDED = ["1." + letter for letter in "abcdefgh"] + ["2." + letter for letter in "abcdefgh"]
 
 RULES = {
     "of no words": (1, [], [[]]),

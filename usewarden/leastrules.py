@@ -18,20 +18,25 @@ def finer_kinds(rooms, kinds):
     return finer
 
 
-def kinds_of(rooms):
-    """Tell for each room the number of its kind: of one kind are the rooms from which the same rows break the rule."""
+def kinds_upto(rooms, most):
+    """Tell for each room the number of its kind, or None where there are more kinds than most.
+
+    Of one kind are the rooms from which the same rows break the rule.
+    """
     kinds = [0 for room in rooms]
     finer = finer_kinds(rooms, kinds)
     # Kinds are numbered as they are met, so they come out equal as soon as none is parted any more.
     while finer != kinds:
+        # Each turn makes more kinds: so, however many rooms there are, there are no more turns than most.
+        if max(finer) >= most:
+            return None
         kinds = finer
         finer = finer_kinds(rooms, kinds)
     return kinds
 
 
-def merged_rooms(rooms):
+def merged_rooms(rooms, kinds):
     """Tell one room for each kind of the rooms, the first one of them for the kind of room 0."""
-    kinds = kinds_of(rooms)
     merged = []
     for at, room in enumerate(rooms):
         # The first room of a kind speaks for all of it.
@@ -74,9 +79,17 @@ def picked(things, places):
     return [things[place] for place in places]
 
 
-def least_rule(rule):
-    """Tell the least rule of the rule."""
+def least_upto(rule, most):
+    """Tell the least rule of the rule, or None where the rooms of the rule are of more kinds than most."""
+    kinds = kinds_upto(rule[2], most)
+    if kinds is None:
+        return None
     words = rule[1]
-    rooms = numbered_rooms(merged_rooms(rule[2]))
+    rooms = numbered_rooms(merged_rooms(rule[2], kinds))
     places = [place for place in range(len(words)) if does_something(rooms, place)]
     return (rule[0], picked(words, places), [picked(room, places) for room in rooms])
+
+
+def least_rule(rule):
+    """Tell the least rule of the rule."""
+    return least_upto(rule, len(rule[2]))

@@ -71,11 +71,16 @@ def is_rule(thing):
     return are_words(thing[1], sides) and are_rooms(thing[2], len(thing[1]))
 
 
+def copy_of(rule):
+    """Tell an equal rule with lists of its own."""
+    return (rule[0], list(rule[1]), [list(room) for room in rule[2]])
+
+
 def copied_rule(thing):
     """Tell an equal rule with lists of its own; refuse what is no rule."""
     if not is_rule(thing):
         raise NoRule("this is no rule")
-    return (thing[0], list(thing[1]), [list(room) for room in thing[2]])
+    return copy_of(thing)
 
 
 def next_room(rule, room, text):

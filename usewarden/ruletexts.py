@@ -1,9 +1,11 @@
 """Rules written as texts, and read from them."""
 
 from usewarden.errors import NoText
+from usewarden.figures import number_in
 from usewarden.rules import is_rule
 
-FIGURES = "0123456789"
+# No rule has a room of more figures.
+MOST_FIGURES = 2
 
 
 def show_way(word, way):
@@ -23,20 +25,12 @@ def show_rule(rule):
     return str(rule[0]) + ": " + "; ".join([show_room(rule[1], room) for room in rule[2]])
 
 
-def number_in(text):
-    """Tell the number of one or two figures that the text is, or None where it is none."""
-    # No rule has a room of more figures, and longer ones are too many for int.
-    if 1 <= len(text) <= 2 and all([sign in FIGURES for sign in text]):
-        return int(text)
-    return None
-
-
 def way_in(text):
     """Tell a word and where it leads, as the text may mean them."""
     if text.endswith("!"):
         return (text[:-1], None)
     parts = text.partition(">")
-    return (parts[0], number_in(parts[2]))
+    return (parts[0], number_in(parts[2], MOST_FIGURES))
 
 
 def ways_in(text):
@@ -56,7 +50,7 @@ def rule_in(text):
     parts = text.partition(": ")
     rooms = [ways_in(room) for room in parts[2].split("; ")]
     words = [way[0] for way in rooms[0]]
-    return (number_in(parts[0]), words, [numbers_of(room) for room in rooms])
+    return (number_in(parts[0], MOST_FIGURES), words, [numbers_of(room) for room in rooms])
 
 
 def read_rule(text):
