@@ -3,6 +3,9 @@
 import copy
 import itertools
 
+from usewarden.programs import lines_of
+from usewarden.rules import room_after
+
 
 class Sour:
     """A thing that can't be compared, counted, walked or asked for its truth."""
@@ -71,6 +74,8 @@ def spoil(thing):
 
 def check_own(case, tell, *handed):
     """Whether telling changes nothing handed in, all lists told are new, and neither hangs on the other later."""
+    # A copy is handed in, for it is spoiled in the end.
+    handed = copy.deepcopy(handed)
     before = copy.deepcopy(handed)
     told = tell(*handed)
     again = copy.deepcopy(told)
@@ -197,3 +202,183 @@ def bounds_of_lines(lines):
         elif texts[0] in ("open", "copy", "drop", "tie", "lend"):
             names.update(texts[1:])
     return len(lines), len(names), sum(line.startswith("lend ") for line in lines), deepest
+
+
+def sixty_lines():
+    """A program as great as one may be: sixty lines, four names, three lends, eight steps around one of its steps."""
+    deepest = [("open", "c"), ("do", "deep", "c"), ("tie", "a", "c"), ("drop", "c")]
+    third = [("lend", "a", "d", [("do", "third", "d"), ("open", "b")])]
+    for turn in range(2):
+        deepest = [("while", turn, deepest), ("do", "loop", "b")]
+    for turn in range(2):
+        deepest = [("if", -turn, deepest, [("copy", "d", "b"), ("do", "other", "d")])]
+    deepest = [("lend", "a", "b", [("lend", "b", "c", [("do", "second", "c"), *deepest]), ("do", "first", "b")])]
+    deepest = [("while", -1, [("if", 1, deepest, third), ("tie", "b", "a")])]
+    around = [("open", "a"), *deepest, ("copy", "d", "a"), ("do", "read", "d"), ("open", "b"), ("tie", "a", "b")]
+    return around + [("do", "write", "abcd"[turn % 4]) for turn in range(60 - len(lines_of(around)))]
+
+
+def partners_in(lines):
+    """For each line that begins a block the lines that part or close it; for each of those the line that begins it."""
+    partners = {}
+    begun = []
+    for at, line in enumerate(lines):
+        kind = line.split(" ")[0]
+        if kind in ("lend", "if", "while"):
+            begun.append(at)
+            partners[at] = []
+        elif kind in ("else", "fi", "back", "done"):
+            partners[begun[-1]].append(at)
+            partners[at] = begun[-1]
+            if kind != "else":
+                begun.pop()
+    return partners
+
+
+def log_by_lines(lines, inputs):
+    """The log of a program, found from its lines alone: line by line, going to and fro between them."""
+    partners = partners_in(lines)
+    held, lent, log, left = {}, {}, [], list(reversed(inputs))
+    at = opened = last = 0
+    while at < len(lines):
+        texts = lines[at].split(" ")
+        kind, following = texts[0], at + 1
+        if kind == "open":
+            held[texts[1]] = opened
+            log.append((at, opened, "open", last))
+            opened += 1
+        elif kind == "do" and texts[2] in held:
+            log.append((at, held[texts[2]], texts[1], last))
+        elif kind == "drop" or kind == "copy" and texts[2] not in held:
+            held.pop(texts[1], None)
+        elif kind == "copy":
+            held[texts[1]] = held[texts[2]]
+        elif kind == "tie" and {texts[1], texts[2]} <= set(held) and held[texts[1]] != held[texts[2]]:
+            log.append((at, held[texts[1]], held[texts[2]]))
+        elif kind == "lend":
+            lent[at] = held.get(texts[1])
+            held.pop(texts[2], None)
+            if lent[at] is not None:
+                log.append((at, lent[at], "lend", last))
+                held[texts[2]] = lent[at]
+        elif kind == "back":
+            handle = lent.pop(partners[at])
+            held.pop(lines[partners[at]].split(" ")[2], None)
+            if handle is not None:
+                log.append((at, handle, "back", last))
+        elif kind in ("if", "while"):
+            more = bool(left) and left[-1] > int(texts[1])
+            last = left.pop() if left else last
+            following = at + 1 if more else partners[at][0] + 1
+        elif kind == "else":
+            following = partners[partners[at]][1] + 1
+        elif kind == "done":
+            following = partners[at]
+        at = following
+    return log + [(len(lines), handle, "end", last) for handle in range(opened)]
+
+
+def code_by_lines(lines, turned):
+    """The code of a program, found from its lines alone: first with marks for the rows that are led to."""
+    partners = partners_in(lines)
+    names = [name for line in lines if line.split(" ")[0] in ("open", "do", "copy", "drop", "tie", "lend")
+             for name in line.split(" ")[2 if line.startswith("do ") else 1:]]
+    slots = list(dict.fromkeys(names)) + [at for at, line in enumerate(lines) if line.startswith("lend ")]
+    rows, marks = [], {}
+
+    def mark():
+        marks[len(marks)] = None
+        return len(marks) - 1
+
+    def put(low, high, turned):
+        at = low
+        while at < high:
+            texts = lines[at].split(" ")
+            kind, closers = texts[0], partners.get(at, [])
+            if kind == "do":
+                rows.append(("do", at, slots.index(texts[2]), texts[1]))
+            elif kind == "lend":
+                x, y, h, back = slots.index(texts[1]), slots.index(texts[2]), slots.index(at), closers[0]
+                rows.extend([("copy", at, h, x), ("do", at, h, "lend"), ("copy", at, y, h)])
+                put(at + 1, back, turned)
+                rows.extend([("do", back, h, "back"), ("drop", back, y), ("drop", back, h)])
+            elif kind == "if":
+                rest, behind = mark(), mark()
+                rows.append(("test", at, int(texts[1]), [rest]))
+                put(at + 1, closers[0], turned)
+                rows.append(("jump", closers[0], [behind]))
+                marks[rest] = len(rows)
+                put(closers[0] + 1, closers[1], turned)
+                marks[behind] = len(rows)
+            elif kind == "while":
+                again, behind = mark(), mark()
+                if turned:
+                    rows.append(("test", at, int(texts[1]), [behind]))
+                    put(at + 1, closers[0], True)
+                marks[again] = len(rows)
+                rows.append(("test", at, int(texts[1]), [behind]))
+                put(at + 1, closers[0], False)
+                rows.append(("jump", closers[0], [again]))
+                marks[behind] = len(rows)
+            else:
+                rows.append((kind, at, *[slots.index(name) for name in texts[1:]]))
+            at = (closers or [at])[-1] + 1
+
+    put(0, len(lines), turned)
+    rows.append(("end", len(lines)))
+    return [row[:-1] + (marks[row[-1][0]],) if isinstance(row[-1], list) else row for row in rows]
+
+
+def random_inputs(chance, program, most):
+    """Inputs by chance, so many at most: those at the bounds of the program, just by them, and others."""
+    bounds = [int(line.split(" ")[1]) for line in lines_of(program) if line.startswith(("if ", "while "))] + [0]
+    near = [bound + by for bound in bounds for by in (-1, 0, 1)] + [10 ** 61 - 1, 1 - 10 ** 61]
+    return [chance.choice(near) for turn in range(chance.randrange(most + 1))]
+
+
+def runs_by_chance(chance, count):
+    """So many programs by chance, each with three lists of inputs, and the logs that their lines ask for."""
+    for turn in range(count):
+        program = random_steps(chance, ["a", "b", "c", "d"][:chance.randrange(1, 5)], 3, 4)
+        lines = lines_of(program)
+        for again in range(3):
+            inputs = random_inputs(chance, program, 9)
+            yield program, inputs, log_by_lines(lines, inputs)
+
+
+def rows_in(log, sides):
+    """The rows of a log by its words alone: of each handle, or of each tie, its handles and its texts with their entries."""
+    if sides == 1:
+        handles = sorted({entry[1] for entry in log if len(entry) == 4})
+        return [([handle], [(at, entry[2]) for at, entry in enumerate(log) if len(entry) == 4 and entry[1] == handle])
+                for handle in handles]
+    rows = []
+    for place, (line, *tied) in enumerate(log):
+        if len(tied) == 2:
+            deeds = [(at, entry) for at, entry in enumerate(log) if at > place and len(entry) == 4 and entry[1] in tied]
+            rows.append((tied, [(at, f"{tied.index(entry[1]) + 1}.{entry[2]}") for at, entry in deeds]))
+    return rows
+
+
+def breach_by_rows(rules, log):
+    """The breach of a log, found from all its rows at once: entry, name, handles and row, or None."""
+    found = []
+    for place, (name, rule) in enumerate(rules):
+        for turn, (handles, texts) in enumerate(rows_in(log, rule[0])):
+            for count in range(1, len(texts) + 1):
+                row = [text for at, text in texts[:count]]
+                if room_after(rule, row) is None:
+                    found.append((texts[count - 1][0], place, turn, name, handles, row))
+                    break
+    return min(found)[:1] + min(found)[3:] if found else None
+
+
+def random_log(chance, handles, words, count):
+    """A log of so many entries by chance, be it one of a run or not."""
+    log = []
+    for turn in range(count):
+        if handles > 1 and chance.random() < 0.3:
+            log.append((turn, *chance.sample(range(handles), 2)))
+        else:
+            log.append((turn, chance.randrange(handles), chance.choice(words), chance.randrange(-9, 9)))
+    return log

@@ -47,6 +47,10 @@ WALKERS = {"list", "tuple", "dict", "sorted", "sum", "any", "all", "enumerate", 
 KEYWORDS = {"sorted": {"key", "reverse"}, "min": {"key", "default"}, "max": {"key", "default"}, "sum": {"start"},
             "enumerate": {"start"}, "zip": {"strict"}}
 CAUGHT_FREELY = {"KeyError", "ZeroDivisionError", "StopIteration"}
+PYTHONS_OWN = {name for kind in (str, int, list, tuple, dict, set, frozenset, bytes) for name in dir(kind)}
+OWN_METHODS_TOO = METHODS | {"add", "discard"}
+OWN_VALUES_TOO = set("count index title find get join lower upper split strip copy add".split())
+BARRED_VALUES = {"args", "encode", "format"}
 BARRED_FILES = {"test", "tests", "testing", "site", "conftest", "sitecustomize", "usercustomize"} | set(dir(builtins))
 
 
@@ -71,6 +75,8 @@ class Checker:
     def check(self):
         self.check_text()
         self.check_top()
+        self.check_locals()
+        self.check_classes()
         for node in ast.walk(self.tree):
             handler = getattr(self, "see_" + node.__class__.__name__.lower(), None)
             if handler is not None:
@@ -141,6 +147,28 @@ class Checker:
         self.check_name(node, name)
         if hasattr(builtins, name):
             self.fault("L15", node, name)
+
+    def check_locals(self):
+        """No parameter and no local is called like a class or an import of its file."""
+        drawn = [alias.asname or alias.name for node in self.tree.body if isinstance(node, ast.ImportFrom) for alias in node.names]
+        drawn += [node.name for node in self.tree.body if isinstance(node, ast.ClassDef)]
+        for node in ast.walk(self.tree):
+            if isinstance(node, ast.arg) and node.arg in drawn:
+                self.fault("L15", node, node.arg)
+            if isinstance(node, ast.Name) and isinstance(node.ctx, ast.Store) and node.id in drawn:
+                self.fault("L15", node, node.id)
+
+    def check_classes(self):
+        """A class is called, is a base, or stands by isinstance, except or raise."""
+        classes = [node.name for node in self.tree.body if isinstance(node, ast.ClassDef)]
+        for node in ast.walk(self.tree):
+            if isinstance(node, ast.Name) and node.id in classes and not isinstance(
+                    self.parents[node], (ast.Call, ast.ClassDef, ast.ExceptHandler)):
+                if not (isinstance(self.parents[node], ast.Attribute) and self.parents[node].attr == "__init__"):
+                    self.fault("L18", node, node.id)
+            if isinstance(node, ast.Call) and any(isinstance(part, ast.Name) and part.id in classes for part in node.args):
+                if not (isinstance(node.func, ast.Name) and node.func.id == "isinstance"):
+                    self.fault("L18", node, "a class is handed on")
 
     def see_import(self, node):
         self.fault("L2", node, "an import")
@@ -334,6 +362,20 @@ def own_names(trees):
     return methods - DUNDERS, {node.name for node in classes if node.bases}
 
 
+def values_of(trees):
+    """The names of the values that objects are given in the package."""
+    return {node.attr for tree in trees for node in ast.walk(tree)
+            if isinstance(node, ast.Attribute) and isinstance(node.ctx, ast.Store)}
+
+
+def faults_of_names(trees):
+    """The names of methods and values of the package that the rules bar."""
+    methods, values = own_names(trees)[0], values_of(trees)
+    faults = [f"L18 {name}" for name in methods & values]
+    faults += [f"L26 {name}" for name in methods if name in PYTHONS_OWN - OWN_METHODS_TOO]
+    return faults + [f"L26 {name}" for name in values if name in (PYTHONS_OWN | BARRED_VALUES) - OWN_VALUES_TOO]
+
+
 def faults_of(text):
     """What a file of that text has that the rules bar."""
     methods, errors = own_names([ast.parse(text)])
@@ -354,6 +396,9 @@ class Language(unittest.TestCase):
         methods, errors = own_names([ast.parse(text) for text in texts.values()])
         for name, text in texts.items():
             self.assertEqual(Checker(name, text, methods, errors).check(), [])
+
+    def test_methods_and_values(self):
+        self.assertEqual(faults_of_names([ast.parse(text) for text in sources().values()]), [])
 
     def test_names_are_drawn_from_where_they_are_defined_and_never_in_a_ring(self):
         drawn = {}
@@ -400,6 +445,25 @@ class TheCheckItself(unittest.TestCase):
         }
         for rule, text in barred.items():
             self.assertTrue(any(fault.startswith(rule + " ") for fault in faults_of(text)), rule)
+
+    def test_it_finds_more_that_is_barred(self):
+        for rule, text in [
+            ("L15", "from usewarden.rules import is_rule\ndef f(is_rule):\n    return is_rule\n"),
+            ("L15", "class A:\n    pass\ndef f(x):\n    A = x\n    return A\n"),
+            ("L18", "class A:\n    pass\ndef f():\n    return [A]\n"),
+            ("L18", "class A:\n    pass\ndef f(x):\n    return x(A)\n"),
+        ]:
+            self.assertTrue(any(fault.startswith(rule + " ") for fault in faults_of(text)), text)
+
+    def test_it_finds_barred_methods_and_values(self):
+        clash = "class A:\n    def near(self):\n        return 1\nclass B:\n    def __init__(self):\n        self.near = 1\n"
+        for rule, text in [
+            ("L18", clash),
+            ("L26", "class A:\n    def casefold(self):\n        return 1\n"),
+            ("L26", "class A:\n    def __init__(self):\n        self.items = 1\n"),
+            ("L26", "class A:\n    def __init__(self):\n        self.args = 1\n"),
+        ]:
+            self.assertEqual([fault.split(" ")[0] for fault in faults_of_names([ast.parse(text)])], [rule])
 
     def test_it_lets_by_what_is_allowed(self):
         text = "\n".join([

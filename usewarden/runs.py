@@ -1,0 +1,51 @@
+"""What every run keeps: how far the inputs are taken, who holds which handle, and the log."""
+
+
+class Run:
+    """A run so far; those who hold handles in it may be names or slots."""
+
+    def __init__(self, inputs):
+        self.inputs = inputs
+        self.taken = 0
+        self.last = 0
+        self.opened = 0
+        self.held = {}
+        self.log = []
+
+    def takes_more(self, bound):
+        """Take the next input, if one is left; tell whether one was taken that is more than the bound."""
+        if self.taken == len(self.inputs):
+            return False
+        self.last = self.inputs[self.taken]
+        self.taken = self.taken + 1
+        return self.last > bound
+
+    def handle_of(self, holder):
+        """Tell the handle that the holder holds, or None."""
+        return self.held.get(holder)
+
+    def hold(self, holder, handle):
+        """Let the holder hold the handle, or nothing, from now on."""
+        self.held[holder] = handle
+
+    def deed(self, line, handle, word):
+        """Let the handle, if there is one, do the deed."""
+        if handle is not None:
+            self.log.append((line, handle, word, self.last))
+
+    def new_handle(self, line, holder):
+        """Let a new handle do the deed `open`, and the holder hold it."""
+        handle = self.opened
+        self.opened = handle + 1
+        self.deed(line, handle, "open")
+        self.hold(holder, handle)
+
+    def tie(self, line, one, other):
+        """Tie both handles, if there are two and they are unlike."""
+        if one is not None and other is not None and one != other:
+            self.log.append((line, one, other))
+
+    def end_all(self, line):
+        """Let all handles that were opened do the deed `end`."""
+        for handle in range(self.opened):
+            self.deed(line, handle, "end")
