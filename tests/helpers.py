@@ -382,3 +382,145 @@ def random_log(chance, handles, words, count):
         else:
             log.append((turn, chance.randrange(handles), chance.choice(words), chance.randrange(-9, 9)))
     return log
+
+
+def deeds(*texts):
+    """A log: each text a handle and a word, or two handles that are tied."""
+    log = []
+    for at, text in enumerate(texts):
+        one, other = text.split(" ")
+        log.append((at, int(one), int(other)) if other.isdigit() else (at, int(one), other, 0))
+    return log
+
+
+def rarely_broken(chance, sides, words, count):
+    """A rule by chance that fewer texts break, so that rows get longer: with some of the words, on sides if it has two."""
+    texts = words if sides == 1 else [f"{side}.{word}" for side in (1, 2) for word in words]
+    chosen = sorted(chance.sample(texts, chance.randrange(1, min(len(texts), 16) + 1)))
+    rooms = [[None if chance.random() < 0.12 else chance.randrange(count) for word in chosen] for room in range(count)]
+    return (sides, chosen, rooms)
+
+
+def rules_by_chance(chance, words, most):
+    """A list of so many rules at most, of one side and of two."""
+    names = ["rule" + name for name in "abcdefgh"[:chance.randrange(most + 1)]]
+    return [(name, rarely_broken(chance, chance.choice([1, 2]), words, chance.randrange(1, 5))) for name in names]
+
+
+def outcome_by_log(breach, log):
+    """What a watched run tells, by the breach in the plain run's log: the log, or the fields of the refusal."""
+    if breach is None:
+        return log
+    at, name, handles, row = breach
+    return name, log[at][0], handles, row, log[:at]
+
+
+def slots_in(held):
+    """The slots of a sum of slots."""
+    return {slot for slot in range(held.bit_length()) if held // 2 ** slot % 2}
+
+
+def sum_of(slots):
+    """The sum of slots."""
+    return sum(2 ** slot for slot in slots)
+
+
+def all_tokens(sides, slots, rooms):
+    """All tokens of so many slots, for a rule of so many sides and rooms."""
+    helds = range(2 ** slots)
+    if sides == 1:
+        return [(held, room) for held in helds for room in range(rooms)]
+    two = [(one, other, older) for one in helds for other in helds if not slots_in(one) & slots_in(other) for older in (1, 2)]
+    return [(held,) for held in helds] + two + [(*token, room) for token in two for room in range(rooms)]
+
+
+def token_behind(row, rule, token):
+    """The token behind a row, or None, as the document words it."""
+    if row[0] == "end":
+        return None
+    parts = list(token)
+    for place in range(1 if len(token) < 3 else 2):
+        slots = slots_in(token[place])
+        if row[0] == "copy" and row[3] in slots:
+            slots.add(row[2])
+        elif row[0] in ("open", "copy", "drop"):
+            slots.discard(row[2])
+        elif row[0] == "do" and row[2] in slots and len(token) in (2, 4):
+            parts[-1] = way_by(rule, token[-1], row[3] if len(token) == 2 else f"{place + 1}.{row[3]}")
+        parts[place] = sum_of(slots)
+    return None if None in parts else tuple(parts)
+
+
+def tokens_begun(row, rule, tokens):
+    """The set of the tokens that begin at a row, of those told and by itself, as the document words it."""
+    if row[0] == "open" and rule[0] == 1:
+        room = way_by(rule, 0, "open")
+        return set() if room is None else {(2 ** row[2], room)}
+    begun = set()
+    if row[0] == "open":
+        begun.add((2 ** row[2],))
+        for held in [sum_of(slots_in(token[0]) - {row[2]}) for token in tokens if len(token) == 1]:
+            begun.update([(held, 2 ** row[2], 1), (2 ** row[2], held, 2)])
+    if row[0] == "tie":
+        begun.update((*token, 0) for token in tokens
+                     if len(token) == 3 and row[2] in slots_in(token[0]) and row[3] in slots_in(token[1]))
+    return begun
+
+
+def numbers_behind(code, at):
+    """The numbers of the rows that may come behind a row."""
+    row = code[at]
+    return {"end": [], "jump": [row[-1]], "test": [at + 1, row[-1]]}.get(row[0], [at + 1])
+
+
+def closed_by_words(code, rule, paper):
+    """Whether a paper is closed, as the document words it."""
+    for at, row in enumerate(code):
+        asked = tokens_begun(row, rule, paper[at]) | {token_behind(row, rule, token) for token in paper[at]}
+        for place in numbers_behind(code, at):
+            if not asked - {None} <= set(paper[place]):
+                return False
+    return True
+
+
+def tokens_met(code, rule, inputs):
+    """For each row of a code the set of the tokens with which a plain run with the inputs comes there, found by running it."""
+    met = [set() for row in code]
+    slots, rooms, ties, left, at = {}, [], [], list(reversed(inputs)), 0
+    while True:
+        row = code[at]
+        helds = [sum_of(slot for slot in slots if slots[slot] == handle) for handle in range(len(rooms))]
+        if rule[0] == 1:
+            met[at].update((held, room) for held, room in zip(helds, rooms) if room is not None)
+        else:
+            met[at].update((held,) for held in helds)
+            met[at].update((helds[one], helds[other], 1 if one < other else 2)
+                           for one, other in itertools.permutations(range(len(rooms)), 2))
+            met[at].update((helds[one], helds[other], 1 if one < other else 2, room)
+                           for one, other, room in ties if room is not None)
+        if row[0] == "end":
+            return met
+        deed = None
+        following = at + 1
+        if row[0] == "open":
+            slots[row[2]] = len(rooms)
+            rooms.append(0)
+            deed = (slots[row[2]], "open")
+        elif row[0] == "do" and row[2] in slots:
+            deed = (slots[row[2]], row[3])
+        elif row[0] == "copy" and row[3] in slots:
+            slots[row[2]] = slots[row[3]]
+        elif row[0] in ("copy", "drop"):
+            slots.pop(row[2], None)
+        elif row[0] == "tie" and {row[2], row[3]} <= set(slots) and slots[row[2]] != slots[row[3]]:
+            ties.append((slots[row[2]], slots[row[3]], 0))
+        elif row[0] == "jump":
+            following = row[2]
+        elif row[0] == "test":
+            following = at + 1 if left and left.pop() > row[2] else row[3]
+        if deed is not None:
+            handle, word = deed
+            rooms[handle] = way_by(rule, rooms[handle], word)
+            ties = [(one, other, way_by(rule, room, f"{1 if one == handle else 2}.{word}") if handle in (one, other) else room)
+                    for one, other, room in ties]
+        at = following

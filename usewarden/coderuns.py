@@ -28,11 +28,15 @@ def row_behind(run, row, at):
     return at + 1
 
 
-def run_code(code, inputs):
-    """Tell the log of the code's run with the inputs."""
-    run = Run(inputs)
+def log_of(code, run):
+    """Go through the code by a run that has just begun; tell the log."""
     at = 0
     while code[at][0] != "end":
         at = row_behind(run, code[at], at)
     run.end_all(code[at][1])
     return run.log
+
+
+def run_code(code, inputs):
+    """Tell the log of the code's run with the inputs."""
+    return log_of(code, Run(inputs, []))

@@ -61,7 +61,7 @@ def do_steps(run, steps):
 def run_plain(program, inputs):
     """Tell the log of the program's run with the inputs."""
     steps = numbered_steps(program, 0)
-    run = Run(inputs)
+    run = Run(inputs, [])
     do_steps(run, steps)
     run.end_all(line_behind(steps, 0))
     return run.log

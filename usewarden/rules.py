@@ -91,11 +91,15 @@ def next_room(rule, room, text):
     return rule[2][room][words.index(text)]
 
 
-def room_after(rule, row):
-    """Tell the room to which the row leads from room 0, or None where it breaks the rule."""
-    room = 0
+def room_from(rule, room, row):
+    """Tell the room to which the row leads from the room, or None where it breaks the rule."""
     for text in row:
         room = next_room(rule, room, text)
         if room is None:
             return None
     return room
+
+
+def room_after(rule, row):
+    """Tell the room to which the row leads from room 0, or None where it breaks the rule."""
+    return room_from(rule, 0, row)

@@ -1,11 +1,15 @@
 """What every run keeps: how far the inputs are taken, who holds which handle, and the log."""
 
+from usewarden.errors import Breach
+from usewarden.watches import all_begin_tie, broken_or_gone_on, row_of
+
 
 class Run:
-    """A run so far; those who hold handles in it may be names or slots."""
+    """A run so far; those who hold handles in it may be names or slots. A plain run has no watches."""
 
-    def __init__(self, inputs):
+    def __init__(self, inputs, watches):
         self.inputs = inputs
+        self.watches = watches
         self.taken = 0
         self.last = 0
         self.opened = 0
@@ -29,9 +33,21 @@ class Run:
         self.held[holder] = handle
 
     def deed(self, line, handle, word):
-        """Let the handle, if there is one, do the deed."""
-        if handle is not None:
-            self.log.append((line, handle, word, self.last))
+        """Let the handle, if there is one, do the deed; refuse one that would break a rule of the watches."""
+        if handle is None:
+            return
+        entry = (line, handle, word, self.last)
+        broken = broken_or_gone_on(self.watches, handle, word)
+        if broken is not None:
+            self.refuse(entry, broken)
+        self.log.append(entry)
+
+    def refuse(self, entry, broken):
+        """Refuse the deed of the entry by what it would break."""
+        name = broken[0]
+        start = broken[1]
+        handles = broken[2]
+        raise Breach(name, entry[0], handles, row_of(self.log[start:] + [entry], handles), self.log)
 
     def new_handle(self, line, holder):
         """Let a new handle do the deed `open`, and the holder hold it."""
@@ -44,6 +60,7 @@ class Run:
         """Tie both handles, if there are two and they are unlike."""
         if one is not None and other is not None and one != other:
             self.log.append((line, one, other))
+            all_begin_tie(self.watches, one, other, len(self.log))
 
     def end_all(self, line):
         """Let all handles that were opened do the deed `end`."""

@@ -1,20 +1,30 @@
 """Rules that watch the rows of handles and of ties, deed by deed."""
 
-from usewarden.rules import next_room
+
+def sided_text(side, word):
+    """Tell how a deed stands in a row: side is that of a tie's handle, 0 in the row of a handle by itself."""
+    return word if side == 0 else f"{side}.{word}"
 
 
 def text_in_row(handles, handle, word):
     """Tell how a deed of the handle stands in the row of the handles, one or two tied ones."""
-    if len(handles) == 1:
-        return word
-    side = handles.index(handle) + 1
-    return f"{side}.{word}"
+    return sided_text(0 if len(handles) == 1 else handles.index(handle) + 1, word)
 
 
 def row_of(entries, handles):
     """Tell the row of the handles, one or two tied ones, in the entries of a log."""
     deeds = [entry for entry in entries if len(entry) == 4]
     return [text_in_row(handles, deed[1], deed[2]) for deed in deeds if deed[1] in handles]
+
+
+def starts_behind(starts, ways):
+    """Tell the starts of rows by the rooms to which a word leads, None where it breaks, of those by their rooms."""
+    behind = {}
+    for room, start in starts.items():
+        way = ways[room]
+        if start <= behind.get(way, start):
+            behind[way] = start
+    return behind
 
 
 class Watch:
@@ -26,42 +36,44 @@ class Watch:
 
     def __init__(self, name, rule):
         self.name = name
-        self.rule = rule
+        self.sides = (0,) if rule[0] == 1 else (1, 2)
+        # By a word: where it leads from each room.
+        self.ways = {}
+        for place, word in enumerate(rule[1]):
+            self.ways[word] = [room[place] for room in rule[2]]
         # By the handles: for each room to which rows of theirs led, the start of the earliest of these rows.
         self.starts = {}
-        # By a handle: the tied handles with that one among them.
+        # By a handle and its side: the tied handles with that one on that side.
         self.ties = {}
 
     def begin_tie(self, one, other, start):
         """Begin the row of a tie, where the rule is of two sides."""
-        if self.rule[0] == 1:
+        if self.sides == (0,):
             return
         tied = (one, other)
         if tied not in self.starts:
             self.starts[tied] = {}
-            self.ties.setdefault(one, []).append(tied)
-            self.ties.setdefault(other, []).append(tied)
+            self.ties.setdefault((one, 1), []).append(tied)
+            self.ties.setdefault((other, 2), []).append(tied)
         # Rows of the same handles in one room go on alike: so the earliest stands for all of them, however many.
         self.starts[tied].setdefault(0, start)
 
-    def rows_with(self, handle):
-        """Tell the handles of the rows in which deeds of the handle stand."""
-        return [(handle,)] if self.rule[0] == 1 else self.ties.get(handle, [])
-
-    def starts_behind(self, handles, text):
-        """Tell the starts of the rows of the handles by the rooms to which the text leads, None where it breaks."""
-        behind = {}
-        # A handle that has done no deed is in room 0.
-        for room, start in self.starts.get(handles, {0: 0}).items():
-            way = next_room(self.rule, room, text)
-            behind[way] = min(start, behind.get(way, start))
-        return behind
+    def rows_with(self, handle, side):
+        """Tell the handles of the rows in which deeds of the handle stand on that side."""
+        return [(handle,)] if side == 0 else self.ties.get((handle, side), [])
 
     def led_by(self, handle, word):
-        """Tell, by their handles, the starts of the rows behind a deed of the handle that hasn't been done yet."""
+        """Tell, by their handles, the starts of the rows behind a deed of the handle that hasn't been done yet.
+
+        Rows in which the rule has no word for the deed stay where they are, and aren't told.
+        """
         led = {}
-        for handles in self.rows_with(handle):
-            led[handles] = self.starts_behind(handles, text_in_row(handles, handle, word))
+        for side in self.sides:
+            ways = self.ways.get(sided_text(side, word))
+            if ways is not None:
+                for handles in self.rows_with(handle, side):
+                    # A handle that has done no deed is in room 0.
+                    led[handles] = starts_behind(self.starts.get(handles, {0: 0}), ways)
         return led
 
     def go_on(self, led):
