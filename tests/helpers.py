@@ -3,6 +3,7 @@
 import copy
 import itertools
 
+from usewarden.codes import code_of, turned_code
 from usewarden.programs import lines_of
 from usewarden.rules import room_after
 
@@ -485,8 +486,29 @@ def closed_by_words(code, rule, paper):
 
 def tokens_met(code, rule, inputs):
     """For each row of a code the set of the tokens with which a plain run with the inputs comes there, found by running it."""
+    return met_and_broken(code, rule, inputs)[0]
+
+
+def rows_broken(code, rule, inputs):
+    """The numbers of the rows at which a handle or a tie breaks the rule that it kept till then, found by running the code."""
+    return met_and_broken(code, rule, inputs)[1]
+
+
+def met_and_broken(code, rule, inputs):
+    """What the run of a code meets: for each row the set of the tokens that come there, and the set of the rows that break."""
     met = [set() for row in code]
+    broken = set()
     slots, rooms, ties, left, at = {}, [], [], list(reversed(inputs)), 0
+
+    def deed(handle, word):
+        ahead = [rooms[handle]] if rule[0] == 1 else [room for one, other, room in ties]
+        rooms[handle] = way_by(rule, rooms[handle], word)
+        ties[:] = [(one, other, way_by(rule, room, f"{1 if one == handle else 2}.{word}") if handle in (one, other) else room)
+                   for one, other, room in ties]
+        behind = [rooms[handle]] if rule[0] == 1 else [room for one, other, room in ties]
+        if ahead.count(None) < behind.count(None):
+            broken.add(at)
+
     while True:
         row = code[at]
         helds = [sum_of(slot for slot in slots if slots[slot] == handle) for handle in range(len(rooms))]
@@ -498,16 +520,17 @@ def tokens_met(code, rule, inputs):
                            for one, other in itertools.permutations(range(len(rooms)), 2))
             met[at].update((helds[one], helds[other], 1 if one < other else 2, room)
                            for one, other, room in ties if room is not None)
-        if row[0] == "end":
-            return met
-        deed = None
         following = at + 1
+        if row[0] == "end":
+            for handle in range(len(rooms)):
+                deed(handle, "end")
+            return met, broken
         if row[0] == "open":
             slots[row[2]] = len(rooms)
             rooms.append(0)
-            deed = (slots[row[2]], "open")
+            deed(slots[row[2]], "open")
         elif row[0] == "do" and row[2] in slots:
-            deed = (slots[row[2]], row[3])
+            deed(slots[row[2]], row[3])
         elif row[0] == "copy" and row[3] in slots:
             slots[row[2]] = slots[row[3]]
         elif row[0] in ("copy", "drop"):
@@ -518,9 +541,123 @@ def tokens_met(code, rule, inputs):
             following = row[2]
         elif row[0] == "test":
             following = at + 1 if left and left.pop() > row[2] else row[3]
-        if deed is not None:
-            handle, word = deed
-            rooms[handle] = way_by(rule, rooms[handle], word)
-            ties = [(one, other, way_by(rule, room, f"{1 if one == handle else 2}.{word}") if handle in (one, other) else room)
-                    for one, other, room in ties]
         at = following
+
+
+def all_codes(program):
+    """The code and the turned code of a program."""
+    return [code_of(program), turned_code(program)]
+
+
+def with_bound_nought(steps):
+    """The steps with all bounds 0."""
+    return [tuple(with_bound_nought(part) if isinstance(part, list) else 0 if isinstance(part, int) else part for part in step)
+            for step in steps]
+
+
+def least_by_turns(code, rule, begun=()):
+    """The least closed paper that has the tokens begun: all rows gone through until nothing comes any more."""
+    paper = [set() for row in code]
+    for at, token in begun:
+        paper[at].add(token)
+    grows = True
+    while grows:
+        grows = False
+        for at, row in enumerate(code):
+            made = (tokens_begun(row, rule, paper[at]) | {token_behind(row, rule, token) for token in paper[at]}) - {None}
+            for place in numbers_behind(code, at):
+                grows = grows or not made <= paper[place]
+                paper[place] |= made
+    return [sorted(tokens) for tokens in paper]
+
+
+def slots_of_code(code):
+    """How many slots the rows of a code have."""
+    named = [slot for row in code if row[0] not in ("test", "jump", "end") for slot in row[2:] if isinstance(slot, int)]
+    return 1 + max(named, default=-1)
+
+
+def rooms_by_words(row, rule, token):
+    """The rooms of a token ahead of a row and behind it, None where it breaks, as the document words it; equal without a room.
+
+    The token None is the new handle.
+    """
+    if token is None:
+        return 0, way_by(rule, 0, "open") if row[0] == "open" and rule[0] == 1 else 0
+    room = token[-1] if len(token) in (2, 4) else 0
+    texts = []
+    if row[0] == "do" and len(token) == 2:
+        texts = [row[3]] * (row[2] in slots_in(token[0]))
+    elif row[0] == "do" and len(token) == 4:
+        texts = [f"{side}.{row[3]}" for side in (1, 2) if row[2] in slots_in(token[side - 1])]
+    elif row[0] == "end" and len(token) == 2:
+        texts = ["end"]
+    elif row[0] == "end" and len(token) == 4:
+        texts = [f"{side}.end" for side in (token[2], 3 - token[2])]
+    behind = room
+    for text in texts:
+        behind = way_by(rule, behind, text)
+    return room, behind
+
+
+def rows_that_break(code, rule, paper):
+    """The numbers of the rows where a token of the paper, or the new handle, breaks the rule."""
+    return [at for at, row in enumerate(code)
+            if any(rooms_by_words(row, rule, token)[1] is None for token in [None, *paper[at]])]
+
+
+def rows_that_move(code, rule, paper):
+    """The numbers of the rows, but that of end, where a token of the paper, or the new handle, comes to another room."""
+    return [at for at, row in enumerate(code) if row[0] != "end"
+            and any(one != other for one, other in [rooms_by_words(row, rule, token) for token in [None, *paper[at]]])]
+
+
+def let_by_words(code, rule, paper, column):
+    """Whether a paper and a column are let by, as the document words it."""
+    breaks = rows_that_break(code, rule, paper)
+    moves = rows_that_move(code, rule, paper)
+    needless = set(column) <= {"none"} and not breaks
+    kept = all(column[at] == "look" for at in breaks) and all(column[at] != "none" for at in moves)
+    return closed_by_words(code, rule, paper) and (needless or kept)
+
+
+def column_by_words(code, rule, paper):
+    """The column of a code, a rule and its paper, as the document words it."""
+    breaks = rows_that_break(code, rule, paper)
+    steps = rows_that_move(code, rule, paper) if breaks else []
+    return ["look" if at in breaks else "step" if at in steps else "none" for at in range(len(code))]
+
+
+def codes_by_chance(chance, count, bounds=True):
+    """So many codes of programs by chance, turned or not, each with a rule; with all bounds 0, if told so."""
+    for turn in range(count):
+        names = ["a", "b", "c", "d"][:chance.randrange(1, 5)]
+        x, y = names[0], names[-1]
+        program = [("open", x), ("open", y), ("tie", *chance.choice([(x, y), (y, x)])), *random_steps(chance, names, 3, 3)]
+        words = ["open", "do", "back", "z", "lend", "end"]
+        rule = rarely_broken(chance, chance.choice([1, 2]), words, chance.randrange(1, 6))
+        code = all_codes(program if bounds else with_bound_nought(program))[turn % 2]
+        if len(code) < 100:
+            yield code, rule
+
+
+def great_codes(chance):
+    """Codes and rules at the bounds: no steps, sixty lines, blocks within one another; sixteen words, sixty rooms, none."""
+    words = ["deep", "end", "loop", "open", "read", "second", "third", "write", "lend", "back"]
+    sixty = {1: steps_rule(60, None), 2: sided(steps_rule(60, None))}
+    for code in [*all_codes([]), *all_codes(sixty_lines())]:
+        for sides in (1, 2):
+            yield code, free(sides)
+            yield code, rarely_broken(chance, sides, words, 4)
+            yield code, sixty[sides]
+    for kind, count in (("if", 7), ("else", 7), ("while", 7), ("lend", 3)):
+        around = [("open", "x"), ("open", "y"), ("tie", "x", "y")]
+        within = [("do", "go", "y"), ("do", "read", "x"), ("do", "close", "x"), *nested(kind, count)]
+        for code in all_codes([*around, ("while", 0, within)]):
+            for rule in (door(), lease(), sixty[1], sixty[2], (1, ["back", "lend"], [[None, 1], [0, 2], [1, None]])):
+                yield code, rule
+    steps = [("if", 0, [("do", "abcdefgh"[place], "ab"[place % 2])], []) for place in range(4)]
+    program = [("open", "a"), ("while", 0, [("open", "b"), ("tie", "a", "b"), ("while", 0, steps)])]
+    for words, sides in ((SIXTEEN, 1), (SIXTEEN_SIDED, 2)):
+        rooms = [[None if chance.random() < 0.02 else chance.randrange(60) for word in words] for room in range(60)]
+        yield code_of(program), (sides, list(words), rooms)

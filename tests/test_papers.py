@@ -5,8 +5,9 @@ import random
 import unittest
 
 from helpers import (
-    SIXTEEN, SIXTEEN_SIDED, barring, check_own, closed_by_words, door, free, lease, nested, numbers_behind, rarely_broken,
-    random_steps, sided, sixty_lines, slots_in, steps_rule, token_behind, tokens_begun, tokens_met,
+    SIXTEEN, SIXTEEN_SIDED, all_codes, barring, check_own, closed_by_words, door, free, lease, least_by_turns, nested,
+    numbers_behind, rarely_broken, random_steps, sided, sixty_lines, slots_in, slots_of_code, steps_rule, token_behind,
+    tokens_begun, tokens_met, with_bound_nought,
 )
 from test_plainruns import small_programs
 from usewarden.codes import code_of, turned_code
@@ -50,22 +51,14 @@ PAPERS = [
 ]
 
 
-def all_codes(program):
-    return [code_of(program), turned_code(program)]
-
-
-def least_by_turns(code, rule):
-    """The least closed paper: all rows gone through again and again, until nothing comes any more."""
-    paper = [set() for row in code]
-    grows = True
-    while grows:
-        grows = False
-        for at, row in enumerate(code):
-            made = (tokens_begun(row, rule, paper[at]) | {token_behind(row, rule, token) for token in paper[at]}) - {None}
-            for place in numbers_behind(code, at):
-                grows = grows or not made <= paper[place]
-                paper[place] |= made
-    return [sorted(tokens) for tokens in paper]
+def small_codes():
+    """Codes of small programs, with a while around them too, each with a rule of one side and one of two."""
+    one = (1, ["end", "open", "z"], [[0, 1, None], [None, None, 2], [0, 0, 1]])
+    two = (2, ["1.z", "2.end", "2.open", "2.z"], [[1, 0, 0, None], [1, 1, 0, 0]])
+    for program in small_programs():
+        for code in [code_of(program), *all_codes([("while", 0, program)])]:
+            for rule in (one, two):
+                yield code, rule
 
 
 def met_by_inputs(code, rule, most):
@@ -107,17 +100,10 @@ def ways_met(code, rule):
     return ways
 
 
-def with_bound_nought(steps):
-    """The steps with all bounds 0."""
-    return [tuple(with_bound_nought(part) if isinstance(part, list) else 0 if isinstance(part, int) else part for part in step)
-            for step in steps]
-
-
 class Papers(unittest.TestCase):
     def check_form(self, code, rule, paper):
         """Whether a paper is one for the code and the rule, each list sorted, each token once."""
-        named = [slot for row in code if row[0] not in ("test", "jump", "end") for slot in row[2:] if isinstance(slot, int)]
-        slots = 1 + max(named, default=-1)
+        slots = slots_of_code(code)
         self.assertIs(paper.__class__, list)
         self.assertEqual(len(paper), len(code))
         for tokens in paper:
@@ -183,14 +169,8 @@ class Papers(unittest.TestCase):
                         self.assertFalse(closed_by_words(code, rule, fewer))
 
     def test_small_programs(self):
-        one = (1, ["end", "open", "z"], [[0, 1, None], [None, None, 2], [0, 0, 1]])
-        two = (2, ["1.z", "2.end", "2.open", "2.z"], [[1, 0, 0, None], [1, 1, 0, 0]])
-        for program in small_programs():
-            around = [("while", 0, program)]
-            for rule in (one, two):
-                self.check(code_of(program), rule)
-                for code in all_codes(around):
-                    self.check(code, rule)
+        for code, rule in small_codes():
+            self.check(code, rule)
 
     def test_just_what_runs_bring_there_by_going_through_the_inputs(self):
         chance = random.Random(2401)

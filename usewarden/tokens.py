@@ -104,12 +104,39 @@ def behind_at(code, rule, at, token):
     return None if room is None else behind[:-1] + (room,)
 
 
+def rooms_at(code, rule, at, token):
+    """Tell the rooms of the token, or where it is None of the new handle of an `open`, ahead of the row and behind it.
+
+    The one behind is None where the rule is broken.
+    """
+    row = code[at]
+    if token is None and row[0] == "open" and rule[0] == 1:
+        return (0, next_room(rule, 0, "open"))
+    if token is None or not has_room(token):
+        # What has no room goes nowhere: two equal ones stand for that.
+        return (0, 0)
+    return (token[-1], room_behind(rule, row, token))
+
+
 def breaks_at(code, rule, at, token):
     """Tell whether the token, or where it is None the new handle of an `open`, breaks the rule at the row."""
-    row = code[at]
-    if token is None:
-        return row[0] == "open" and rule[0] == 1 and next_room(rule, 0, "open") is None
-    return has_room(token) and room_behind(rule, row, token) is None
+    return rooms_at(code, rule, at, token)[1] is None
+
+
+def moves_at(code, rule, at, token):
+    """Tell whether the room of the token, or where it is None of the new handle of an `open`, stays not as it was."""
+    rooms = rooms_at(code, rule, at, token)
+    return rooms[0] != rooms[1]
+
+
+def any_breaks(code, rule, at, tokens):
+    """Tell whether one of the tokens, or the new handle of an `open`, breaks the rule at the row."""
+    return any([breaks_at(code, rule, at, token) for token in tokens + [None]])
+
+
+def any_moves(code, rule, at, tokens):
+    """Tell whether the room of one of the tokens, or of the new handle of an `open`, stays not as it was at the row."""
+    return any([moves_at(code, rule, at, token) for token in tokens + [None]])
 
 
 def rows_behind(code, at):
