@@ -4,7 +4,8 @@ import copy
 import itertools
 
 from usewarden.codes import code_of, turned_code
-from usewarden.programs import lines_of
+from usewarden.errors import Breach
+from usewarden.programs import is_program, lines_of
 from usewarden.rules import room_after
 
 
@@ -167,6 +168,17 @@ def nested(kind, count):
             "while": ("while", turn, steps),
         }[kind]]
     return steps
+
+
+def filled(kind, count, steps):
+    """The same, a while or a side of an if, with the steps in the innermost block."""
+    program = nested(kind, count)
+    side = 3 if kind == "else" else 2
+    within = program
+    for turn in range(count):
+        within = within[0][side]
+    within.extend(steps)
+    return program
 
 
 def random_steps(chance, names, depth, width):
@@ -337,6 +349,13 @@ def random_inputs(chance, program, most):
     return [chance.choice(near) for turn in range(chance.randrange(most + 1))]
 
 
+def inputs_near(bound):
+    """Lists of inputs equal to the bound, one more, far from it, and more than are taken."""
+    most = 10 ** 61 - 1
+    return [[], [bound], [bound + 1], [bound + 1, bound], [bound + 1] * 2, [most, most], [most, -most], [-most, most],
+            [most, bound, most, most]]
+
+
 def runs_by_chance(chance, count):
     """So many programs by chance, each with three lists of inputs, and the logs that their lines ask for."""
     for turn in range(count):
@@ -414,6 +433,40 @@ def outcome_by_log(breach, log):
         return log
     at, name, handles, row = breach
     return name, log[at][0], handles, row, log[:at]
+
+
+def fields_of(breach):
+    """What a refusal bears."""
+    return breach.rule, breach.line, breach.handles, breach.row, breach.log
+
+
+def told_by(run, *handed):
+    """What a run tells: its log, or the fields of its refusal."""
+    try:
+        return run(*handed)
+    except Breach as breach:
+        return fields_of(breach)
+
+
+def told_by_lines(program, rules, inputs):
+    """What a watched run must tell: by the program's lines and the rows of its log alone."""
+    log = log_by_lines(lines_of(program), inputs)
+    return outcome_by_log(breach_by_rows(rules, log), log)
+
+
+def lines_broken(log, rules):
+    """The lines of the entries of a log with which a handle, or a tie, breaks one of the rules, all of as many sides.
+
+    It kept all of them till then.
+    """
+    found = set()
+    for handles, texts in rows_in(log, rules[0][0]):
+        for count in range(1, len(texts) + 1):
+            row = [text for at, text in texts[:count]]
+            if any(room_after(rule, row) is None for rule in rules):
+                found.add(log[texts[count - 1][0]][0])
+                break
+    return found
 
 
 def slots_in(held):
@@ -661,3 +714,15 @@ def great_codes(chance):
     for words, sides in ((SIXTEEN, 1), (SIXTEEN_SIDED, 2)):
         rooms = [[None if chance.random() < 0.02 else chance.randrange(60) for word in words] for room in range(60)]
         yield code_of(program), (sides, list(words), rooms)
+
+
+def ruled_programs(chance, count, most):
+    """So many programs by chance, in which handles are tied ahead, each with a list of so many rules at most."""
+    made = 0
+    while made < count:
+        names = ["a", "b", "c", "d"][:chance.randrange(1, 5)]
+        x, y = names[0], names[-1]
+        program = [("open", x), ("open", y), ("tie", *chance.choice([(x, y), (y, x)])), *random_steps(chance, names, 3, 4)]
+        if is_program(program):
+            made += 1
+            yield program, rules_by_chance(chance, ["open", "do", "back", "z", "lend", "end"], most)

@@ -5,8 +5,8 @@ import random
 import unittest
 
 from helpers import (
-    SIXTEEN, SIXTEEN_SIDED, barring, breach_by_rows, check_own, door, free, lease, lists_within, log_by_lines, outcome_by_log,
-    random_inputs, random_steps, ring_rule, rules_by_chance, sixty_lines, spoil, steps_rule,
+    SIXTEEN, SIXTEEN_SIDED, barring, breach_by_rows, check_own, door, fields_of, free, lease, lists_within, log_by_lines,
+    outcome_by_log, random_inputs, random_steps, ring_rule, rules_by_chance, sixty_lines, spoil, steps_rule, told_by,
 )
 from test_coderuns import BY_ROWS
 from test_plainruns import RUNS, small_inputs, small_programs, takes_inputs
@@ -22,17 +22,9 @@ from usewarden.watched import run_watched
 MORE = 10 ** 61 - 1
 
 
-def fields_of(breach):
-    """What a refusal bears."""
-    return breach.rule, breach.line, breach.handles, breach.row, breach.log
-
-
 def outcome(code, rules, inputs):
     """What a watched run tells: its log, or the fields of its refusal."""
-    try:
-        return run_watched(code, rules, inputs)
-    except Breach as breach:
-        return fields_of(breach)
+    return told_by(run_watched, code, rules, inputs)
 
 
 # A handle that was opened must be closed ahead of its end.

@@ -1,12 +1,13 @@
-"""What watched runs need: rows, and where they lead in the rules, deed by deed [2, 18, 19, 20]."""
+"""What watched runs need: rows, and where they lead in the rules, deed by deed [2, 18, 19, 20, 28, 30]."""
 
 import copy
 import random
 import unittest
 
-from helpers import deeds, door, lease, random_log, rows_in
+from helpers import barring, deeds, door, lease, random_log, rows_in
 from test_breaches import BREACHES
-from usewarden.watches import Watch, all_begin_tie, broken_or_gone_on, earliest_broken, row_of, watches_of
+from usewarden.laid import laid_rules
+from usewarden.watches import Watch, all_begin_tie, broken_or_gone_on, row_of, watch_of, watches_of
 
 
 class Rows(unittest.TestCase):
@@ -40,44 +41,69 @@ class Watches(unittest.TestCase):
                 if len(entry) == 3:
                     all_begin_tie(watches, entry[1], entry[2], at + 1)
                 else:
-                    self.assertIsNone(broken_or_gone_on(watches, entry[1], entry[2]))
+                    self.assertIsNone(broken_or_gone_on(watches, None, entry[1], entry[2]))
             entry = log[breach[0]]
             before = [copy.deepcopy(watch.starts) for watch in watches]
-            broken = broken_or_gone_on(watches, entry[1], entry[2])
+            broken = broken_or_gone_on(watches, None, entry[1], entry[2])
             # A deed that isn't done leaves all as it was: asked again it is the same.
             self.assertEqual([watch.starts for watch in watches], before)
-            self.assertEqual(broken_or_gone_on(watches, entry[1], entry[2]), broken)
+            self.assertEqual(broken_or_gone_on(watches, None, entry[1], entry[2]), broken)
             self.assertEqual((broken[0], list(broken[2])), breach[1:3])
 
     def test_one_watch_by_itself(self):
-        watch = Watch("lease", lease())
-        self.assertEqual(watch.led_by(1, "read"), {})
+        watch = watch_of(4, ("lease", lease()), None)
+        self.assertEqual(watch.broken_by(1, "read"), [])
         watch.begin_tie(0, 1, 3)
         watch.begin_tie(2, 1, 5)
-        led = watch.led_by(1, "read")
-        self.assertEqual(led, {(0, 1): {None: 3}, (2, 1): {None: 5}})
-        self.assertEqual(earliest_broken(led), (3, (0, 1)))
-        led = watch.led_by(0, "open")
-        self.assertIsNone(earliest_broken(led))
-        watch.go_on(led)
-        self.assertEqual(earliest_broken(watch.led_by(1, "read")), (5, (2, 1)))
-        watch.go_on(watch.led_by(2, "open"))
-        self.assertIsNone(earliest_broken(watch.led_by(1, "read")))
+        self.assertEqual(watch.broken_by(1, "read"), [((4, "lease"), 3, (0, 1)), ((4, "lease"), 5, (2, 1))])
+        self.assertEqual(watch.broken_by(0, "open"), [])
+        watch.go_on(0, "open")
+        self.assertEqual(watch.broken_by(1, "read"), [((4, "lease"), 5, (2, 1))])
+        watch.go_on(2, "open")
+        self.assertEqual(watch.broken_by(1, "read"), [])
 
     def test_a_rule_of_one_side_has_no_ties(self):
-        watch = Watch("door", door())
+        watch = watch_of(0, ("door", door()), None)
         watch.begin_tie(0, 1, 3)
         self.assertEqual((watch.starts, watch.ties), ({}, {}))
-        self.assertEqual(watch.led_by(0, "open"), {(0,): {1: 0}})
-        self.assertEqual(earliest_broken(watch.led_by(1, "read")), (0, (1,)))
+        self.assertEqual(watch.broken_by(0, "open"), [])
+        watch.go_on(0, "open")
+        self.assertEqual(watch.starts, {(0,): {1: 0}})
+        self.assertEqual(watch.broken_by(1, "read"), [((0, "door"), 0, (1,))])
 
     def test_rows_without_a_word_for_the_deed_stay_where_they_are(self):
-        watch = Watch("lease", lease())
+        watch = watch_of(0, ("lease", lease()), None)
         watch.begin_tie(0, 1, 3)
         watch.begin_tie(1, 2, 4)
-        self.assertEqual(watch.led_by(0, "look"), {})
-        self.assertEqual(watch.led_by(0, "read"), {})
-        self.assertEqual(watch.led_by(1, "open"), {(1, 2): {1: 4}})
+        for handle, word in ((0, "look"), (0, "read"), (5, "open")):
+            self.assertEqual(watch.rows_with(handle, word), [])
+            watch.go_on(handle, word)
+        self.assertEqual(watch.starts, {(0, 1): {0: 3}, (1, 2): {0: 4}})
+        self.assertEqual(watch.rows_with(1, "open"), [((1, 2), "1.open")])
+        watch.go_on(1, "open")
+        self.assertEqual(watch.starts, {(0, 1): {0: 3}, (1, 2): {1: 4}})
+
+    def test_rows_of_rules_laid_together_are_blamed_apart(self):
+        # Two ties of the same handles in unlike rooms: one deed breaks unlike rules by them.
+        rule, blames = laid_rules([("a", (2, ["1.x", "1.y"], [[1, 0], [1, None]])), ("b", barring(2, "1.y"))])
+        marks = [(3, "a"), (1, "b")]
+        watch = Watch(rule, [[None if blame is None else marks[blame] for blame in blamed] for blamed in blames], None)
+        watch.begin_tie(0, 1, 2)
+        watch.go_on(0, "x")
+        watch.begin_tie(0, 1, 4)
+        self.assertEqual(sorted(watch.broken_by(0, "y")), [((1, "b"), 4, (0, 1)), ((3, "a"), 2, (0, 1))])
+        self.assertEqual(broken_or_gone_on([watch], None, 0, "y"), ("b", 4, (0, 1)))
+
+    def test_marks_of_a_column(self):
+        named = ("once", (1, ["x"], [[1], [None]]))
+        for marks, rooms in (("look", 1), ("step", 1), ("none", 0)):
+            watch = watch_of(0, named, ["none", marks])
+            self.assertEqual([watch.mark_at(at) for at in (0, 1)], ["none", marks])
+            self.assertIsNone(broken_or_gone_on([watch], 0, 7, "x"))
+            self.assertEqual(watch.starts_of((7,)), {0: 0})
+            self.assertIsNone(broken_or_gone_on([watch], 1, 7, "x"))
+            self.assertEqual(watch.starts_of((7,)), {rooms: 0})
+        self.assertEqual(broken_or_gone_on([watch_of(0, ("x", barring(1, "x")), ["look"])], 0, 7, "x"), ("x", 0, (7,)))
 
 
 if __name__ == "__main__":

@@ -5,8 +5,8 @@ import random
 import unittest
 
 from helpers import (
-    all_codes, barring, check_own, codes_by_chance, door, free, great_codes, lease, nested, random_steps, rarely_broken,
-    ring_rule, rows_broken, rows_in, rows_that_break, sided, sixty_lines, steps_rule, with_bound_nought,
+    all_codes, barring, check_own, codes_by_chance, door, filled, free, great_codes, lease, lines_broken, random_steps,
+    rarely_broken, ring_rule, rows_broken, rows_that_break, sided, sixty_lines, steps_rule, with_bound_nought,
 )
 from test_columns import COLUMNS
 from test_papers import small_codes
@@ -15,19 +15,7 @@ from usewarden.codes import code_of, turned_code
 from usewarden.papers import paper_of
 from usewarden.programs import is_program, lines_of
 from usewarden.progtexts import read_program
-from usewarden.rules import room_after
 from usewarden.waysto import way_to
-
-
-def lines_broken(log, rule):
-    """The lines of the entries of a log with which the row of a handle, or of a tie, breaks the rule and not ahead of it."""
-    found = set()
-    for handles, texts in rows_in(log, rule[0]):
-        for count in range(1, len(texts) + 1):
-            if room_after(rule, [text for at, text in texts[:count]]) is None:
-                found.add(log[texts[count - 1][0]][0])
-                break
-    return found
 
 
 class Ways(unittest.TestCase):
@@ -37,7 +25,7 @@ class Ways(unittest.TestCase):
         self.assertTrue(all(number.__class__ is int and abs(number) < 10 ** 61 for number in inputs))
         self.assertLessEqual(len(inputs), most)
         self.assertIn(at, rows_broken(code, rule, inputs), (code, rule, at, inputs))
-        self.assertIn(code[at][1], lines_broken(run_code(code, inputs), rule))
+        self.assertIn(code[at][1], lines_broken(run_code(code, inputs), [rule]))
 
     def check(self, code, rule):
         """Whether ways are told just to those rows where something breaks the rule; tell them."""
@@ -172,11 +160,7 @@ class Ways(unittest.TestCase):
 
     def test_blocks_within_one_another(self):
         for kind in ("if", "else", "while"):
-            program = nested(kind, 8)
-            within = program
-            while within[0][2:][kind == "else"]:
-                within = within[0][2:][kind == "else"]
-            within[0][2:][kind == "else"].extend([("open", "a"), ("do", "x", "a")])
+            program = filled(kind, 8, [("open", "a"), ("do", "x", "a")])
             self.assertTrue(is_program(program))
             for code in all_codes(program):
                 ways = self.check(code, barring(1, "x"))

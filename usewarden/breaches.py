@@ -9,7 +9,8 @@ def breach_by(watches, log, at):
     if len(entry) == 3:
         all_begin_tie(watches, entry[1], entry[2], at + 1)
         return None
-    broken = broken_or_gone_on(watches, entry[1], entry[2])
+    # A log has no rows of a code: its watches look at each deed.
+    broken = broken_or_gone_on(watches, None, entry[1], entry[2])
     if broken is None:
         return None
     start = broken[1]

@@ -18,22 +18,21 @@ def do_row(run, row):
         run.tie(line, run.handle_of(row[2]), run.handle_of(row[3]))
 
 
-def row_behind(run, row, at):
-    """Do what the row with the number at tells; tell the number of the row that follows."""
+def row_behind(run, row):
+    """Do what the row to which the run has come tells; tell the number of the row that follows."""
     if row[0] == "jump":
         return row[2]
     if row[0] == "test":
-        return at + 1 if run.takes_more(row[2]) else row[3]
+        return run.at + 1 if run.takes_more(row[2]) else row[3]
     do_row(run, row)
-    return at + 1
+    return run.at + 1
 
 
 def log_of(code, run):
     """Go through the code by a run that has just begun; tell the log."""
-    at = 0
-    while code[at][0] != "end":
-        at = row_behind(run, code[at], at)
-    run.end_all(code[at][1])
+    while code[run.at][0] != "end":
+        run.come_to(row_behind(run, code[run.at]))
+    run.end_all(code[run.at][1])
     return run.log
 
 

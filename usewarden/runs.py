@@ -10,11 +10,17 @@ class Run:
     def __init__(self, inputs, watches):
         self.inputs = inputs
         self.watches = watches
+        # The row of the code that is gone through; where steps are done in its place it stays 0.
+        self.at = 0
         self.taken = 0
         self.last = 0
         self.opened = 0
         self.held = {}
         self.log = []
+
+    def come_to(self, at):
+        """Come to the row of the code with that number."""
+        self.at = at
 
     def takes_more(self, bound):
         """Take the next input, if one is left; tell whether one was taken that is more than the bound."""
@@ -37,7 +43,7 @@ class Run:
         if handle is None:
             return
         entry = (line, handle, word, self.last)
-        broken = broken_or_gone_on(self.watches, handle, word)
+        broken = broken_or_gone_on(self.watches, self.at, handle, word)
         if broken is not None:
             self.refuse(entry, broken)
         self.log.append(entry)

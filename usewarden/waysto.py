@@ -34,22 +34,29 @@ def inputs_by(code, came, place):
     return list(reversed(inputs))
 
 
-def way_to(code, rule, at):
-    """Tell inputs with which a run comes to the row and there a handle or a tie first breaks the rule, or None."""
-    # Only deeds break a rule: so to other rows nothing need be sought.
-    if code[at][0] not in ("open", "do", "end"):
-        return None
+def ways_to(code, rule, rows):
+    """Tell ways to those of the rows to which there is one, by their numbers; all are found by one search."""
     # No place is gone through twice, so there are no more inputs than rows (with None) and tokens of the paper.
     came = {(0, None): None}
     order = [(0, None)]
+    ways = {}
     turn = 0
-    while turn < len(order):
+    while turn < len(order) and len(ways) < len(rows):
         place = order[turn]
-        if place[0] == at and breaks_at(code, rule, at, place[1]):
-            return inputs_by(code, came, place)
+        at = place[0]
+        if at in rows and at not in ways and breaks_at(code, rule, at, place[1]):
+            ways[at] = inputs_by(code, came, place)
         for behind in places_behind(code, rule, place):
             if behind not in came:
                 came[behind] = place
                 order.append(behind)
         turn = turn + 1
-    return None
+    return ways
+
+
+def way_to(code, rule, at):
+    """Tell inputs with which a run comes to the row and there a handle or a tie first breaks the rule, or None."""
+    # Only deeds break a rule: so to other rows nothing need be sought.
+    if code[at][0] not in ("open", "do", "end"):
+        return None
+    return ways_to(code, rule, [at]).get(at)
